@@ -1,0 +1,1 @@
+"""Taking the beads of a row out one by one, and the parties that form."""

@@ -1,0 +1,135 @@
+import doctest
+import importlib
+import inspect
+import unittest
+from pathlib import Path
+
+from beadmoot.books import Book
+from beadmoot.gaps import gaps, narrow_gaps
+from beadmoot.orders import check_run, marks_of
+from beadmoot.parties import book_of
+from beadmoot.rows import Row
+from beadmoot.spans import floors
+from beadmoot.strands import Strand
+from beadmoot.tallies import Prices, Tally, mark_of
+from tests.helpers import refusal
+
+FUNCTIONS = {
+    "tallies": ["mark_of(left, bead, right)", "tally_sum(*tallies)"],
+    "orders": ["check_run(strand, run, *, whole=False)", "play(strand, run)", "marks_of(strand, run)",
+               "tally_of(strand, run)", "total_of(strand, run, prices)", "steps(strand, run)"],
+    "rings": ["ring_play(strand, run)"],
+    "books": ["is_coarser(book, other)"],
+    "gaps": ["gaps(book)", "parties_round(book)", "narrow_gaps(book)", "is_good(book)"],
+    "parties": ["parties_by(strand, pairs)", "parties_so_far(row)", "ended_parties(row)", "book_of(strand, order)",
+                "ring_book(strand, order)"],
+    "playing": ["book_numbers(book)", "play_book(book, *, edges=None)"],
+    "mending": ["joins_needed(book)", "mend(book)"],
+    "spans": ["floors(strand, prices)", "check_floors(strand, prices, table)", "least_total(strand, prices)",
+              "greatest_total(strand, prices)", "least_order(strand, prices)"],
+}
+CLASSES = {
+    "strands": {"Strand(kinds)": ["stretches(self)", "mirrored(self)", "turned(self, bead)", "__iter__(self)"]},
+    "tallies": {
+        "Tally(quiet=0, odd=0, edge=0, strife=0)": ["takings(self)", "toll(self)", "ended(self)", "lost(self)",
+                                                    "__add__(self, other)", "__iter__(self)"],
+        "Prices(*, quiet=0, odd=0, edge=1, strife=1)": ["__call__(self, mark)", "total(self, tally)", "negated(self)"],
+    },
+    "rows": {"Row(strand)": [
+        "take(self, bead)", "mark(self, bead)", "neighbours(self, bead)", "is_done(self)", "take_round(self, beads)",
+        "grow(self, kind)", "grown(self)", "rest(self)", "undo(self)", "twin(self)", "meetings(self)", "tally(self)",
+        "__iter__(self)", "__contains__(self, bead)"]},
+    "rings": {"Ring(strand)": [
+        "take(self, bead)", "neighbours(self, bead)", "undo(self)", "is_done(self)", "last_unlike(self)",
+        "tally(self)", "meetings(self)", "__contains__(self, bead)"]},
+    "books": {"Book(strand, parties)": [
+        "party_of(self, bead)", "joined(self, a, b)", "common(self, other)", "__iter__(self)",
+        "__contains__(self, pair)"]},
+}
+
+
+def module(name):
+    return importlib.import_module("beadmoot." + name)
+
+
+class Interface(unittest.TestCase):
+    """The interface section: names, arguments and where they are defined."""
+
+    def test_functions(self):
+        for name, wanted in FUNCTIONS.items():
+            for line in wanted:
+                word = line.partition("(")[0]
+                found = vars(module(name))[word]
+                self.assertEqual(word + str(inspect.signature(found)), line)
+                self.assertEqual(found.__module__, "beadmoot." + name)
+
+    def test_classes(self):
+        for name, classes in CLASSES.items():
+            for line, methods in classes.items():
+                word = line.partition("(")[0]
+                found = vars(module(name))[word]
+                self.assertEqual(word + str(inspect.signature(found)), line)
+                self.assertEqual(found.__module__, "beadmoot." + name)
+                for method in methods:
+                    own = vars(found)[method.partition("(")[0]]
+                    self.assertEqual(own.__name__ + str(inspect.signature(own)), method)
+
+    def test_properties_and_class_method(self):
+        for name, word in (("rows", "Row"), ("rings", "Ring")):
+            found = vars(vars(module(name))[word])
+            self.assertIsInstance(found["standing"], property)
+            self.assertIsInstance(found["taken"], property)
+        self.assertIsInstance(vars(Strand)["from_letters"], classmethod)
+        self.assertEqual(str(inspect.signature(Strand.from_letters)), "(text)")
+
+    def test_steps_is_a_generator_function(self):
+        self.assertTrue(inspect.isgeneratorfunction(module("orders").steps))
+
+    def test_only_what_is_built_stands_in_the_package(self):
+        folder = Path(module("strands").__file__).parent
+        names = sorted(path.stem for path in folder.glob("*.py"))
+        self.assertEqual(names, sorted([*FUNCTIONS, "strands", "rows", "errors", "__init__"]))
+
+
+class Examples(unittest.TestCase):
+    """The examples of the interface section and of point 21, word by word."""
+
+    def setUp(self):
+        self.strand = Strand([1, 2, 1, 3, 1])
+
+    def test_strands(self):
+        self.assertEqual(Strand([1, 2, 1]).stretches(), [(2, 0), (1,)])
+        self.assertEqual(refusal(Strand, [1, 1000]), ("BadStrand", 1))
+
+    def test_tallies(self):
+        self.assertEqual(mark_of(2, 1, 3), "strife")
+        self.assertEqual(Prices(quiet=2).total(Tally(1, 4, 2, 1)), 5)
+
+    def test_rows(self):
+        row = Row(self.strand)
+        row.take(2)
+        self.assertEqual(row.undo(), ("take", 2))
+
+    def test_orders(self):
+        self.assertEqual(marks_of(self.strand, [2, 1, 3]), ["strife", "strife", "odd"])
+        self.assertEqual(marks_of(self.strand, [1, 3, 2]), ["odd", "odd", "quiet"])
+        self.assertEqual(refusal(check_run, self.strand, [1, 4]), ("BadRun", 1))
+
+    def test_books_and_gaps(self):
+        self.assertEqual(refusal(Book, Strand([1, 2, 1, 2]), [[0, 2], [1, 3]]), ("BadBook", 3, (0, 1, 2, 3)))
+        self.assertEqual(gaps(Book(self.strand, [[0, 2, 4], [1], [3]])), [(0, 1), (2, 3)])
+        self.assertEqual(narrow_gaps(Book(Strand([1, 2, 1, 2]), [[0], [1], [2], [3]])), [0])
+
+    def test_parties_and_spans(self):
+        self.assertEqual(book_of(self.strand, [1, 3, 2]).parties, ((0, 2, 4), (1,), (3,)))
+        self.assertEqual(floors(self.strand, Prices())[(0, 3)], 1)
+
+    def test_readme(self):
+        path = Path(__file__).parent.parent / "README.md"
+        result = doctest.testfile(str(path), module_relative=False)
+        self.assertGreater(result.attempted, 0)
+        self.assertEqual(result.failed, 0)
+
+
+if __name__ == "__main__":
+    unittest.main()

@@ -1,0 +1,134 @@
+import copy
+import time
+import unittest
+
+from beadmoot.books import Book, is_coarser
+from beadmoot.gaps import gaps, is_good, narrow_gaps, parties_round
+from beadmoot.mending import joins_needed, mend
+from beadmoot.orders import check_run, marks_of, play, steps, tally_of, total_of
+from beadmoot.parties import book_of, ended_parties, parties_by, parties_so_far, ring_book
+from beadmoot.playing import book_numbers, play_book
+from beadmoot.rings import Ring, ring_play
+from beadmoot.rows import Row
+from beadmoot.spans import check_floors, floors, greatest_total, least_order, least_total
+from beadmoot.strands import Strand
+from beadmoot.tallies import Prices, Tally, tally_sum
+from tests.helpers import refusal
+
+KINDS = [1, 2, 1, 3, 1, 2, 3]
+ORDER = [3, 1, 5, 2, 4]
+
+
+def shown(value):
+    """Return all attributes of an object, and of the objects in them, in a form that can be compared."""
+    if hasattr(value, "__dict__"):
+        return value.__class__.__name__, {name: shown(part) for name, part in vars(value).items()}
+    if isinstance(value, (list, tuple)):
+        return value.__class__.__name__, [shown(part) for part in value]
+    if isinstance(value, dict):
+        return "dict", [(key, shown(part)) for key, part in value.items()]
+    return value
+
+
+def calls():
+    """Return pairs (call, arguments), with new arguments each time, for all that is passed to functions."""
+    strand = Strand(KINDS)
+    book = book_of(strand, ORDER)
+    bad = Book(Strand([1, 2, 1, 2]), [[0], [1], [2], [3]])
+    prices = Prices(quiet=-1, odd=2, edge=3, strife=-4)
+    row = play(strand, ORDER[:2])
+    table = floors(strand, prices)
+    return [
+        (Strand, [KINDS[:]]), (strand.stretches, []), (strand.mirrored, []), (strand.turned, [3]),
+        (tally_sum, [Tally(1), Tally(0, 1)]), (prices.total, [Tally(1, 2, 3, 4)]), (prices.negated, []),
+        (Row(strand).take_round, [[5, 3, 1]]), (Row, [strand]), (Ring, [strand]),
+        (check_run, [strand, ORDER[:]]), (play, [strand, ORDER[:]]), (marks_of, [strand, ORDER[:]]),
+        (tally_of, [strand, ORDER[:]]), (total_of, [strand, ORDER[:], prices]),
+        (lambda *rest: list(steps(*rest)), [strand, ORDER[:]]), (ring_play, [strand, [0, 6, 2]]),
+        (Book, [strand, [list(party) for party in book.parties]]), (book.joined, [0, 2]), (book.common, [book]),
+        (is_coarser, [book, book]), (gaps, [book]), (parties_round, [book]), (narrow_gaps, [bad]), (is_good, [bad]),
+        (parties_by, [strand, [(0, 2), (2, 4)]]), (parties_so_far, [row]), (ended_parties, [row]),
+        (book_of, [strand, ORDER[:]]), (ring_book, [strand, [0, 6, 2, 3, 4]]), (book_numbers, [book]),
+        (play_book, [book]), (joins_needed, [bad]), (mend, [bad]), (floors, [strand, prices]),
+        (check_floors, [strand, prices, table]), (least_total, [strand, prices]), (greatest_total, [strand, prices]),
+        (least_order, [strand, prices]),
+    ]
+
+
+def as_tuples(value):
+    """Replace lists by tuples, also inside."""
+    if isinstance(value, (list, tuple)):
+        return tuple(as_tuples(part) for part in value)
+    return value
+
+
+class Promises(unittest.TestCase):
+    """Points 1 to 4."""
+
+    def test_arguments_are_not_changed(self):
+        for call, arguments in calls():
+            before = copy.deepcopy(shown(arguments))
+            call(*arguments)
+            self.assertEqual(shown(arguments), before, call)
+
+    def test_equal_answers(self):
+        for (call, arguments), (again, others) in zip(calls(), calls()):
+            self.assertEqual(shown(call(*arguments)), shown(again(*others)), call)
+
+    def test_tuples_for_lists(self):
+        for (call, arguments), (again, others) in zip(calls(), calls()):
+            self.assertEqual(shown(call(*arguments)), shown(again(*[as_tuples(part) for part in others])), call)
+
+    def test_results_are_new(self):
+        for call, arguments in calls():
+            if call in (play, ring_play, Row, Ring):
+                continue
+            first = call(*arguments)
+            before = shown(first)
+            if isinstance(first, (list, dict)):
+                first.clear()
+                if getattr(call, "__name__", "") != "take_round":
+                    self.assertEqual(shown(call(*arguments)), before, call)
+
+    def test_nothing_changes_behind_an_error(self):
+        strand = Strand(KINDS)
+        row, ring, book = play(strand, ORDER[:2]), ring_play(strand, ORDER), book_of(strand, ORDER)
+        before = shown([strand, row, ring, book])
+        for call, arguments in (
+                (strand.turned, [7]), (row.take, [3]), (row.take, [0]), (row.take, [7]), (row.mark, [3]),
+                (row.neighbours, [1]), (row.take_round, [[4, 5]]), (row.take_round, [[4, 0]]), (row.grow, [-1]),
+                (ring.take, [0]), (ring.take, [3]), (ring.take, [-1]), (ring.neighbours, [1]),
+                (book.party_of, [9]), (book.joined, [0, 9]), (book.joined, [0, 1]),
+                (book.common, [Book(Strand([1, 1]), [[0, 1]])])):
+            self.assertIsNotNone(refusal(call, *arguments), call)
+        self.assertEqual(shown([strand, row, ring, book]), before)
+
+    def test_keys_of_dicts_ascend(self):
+        keys = list(floors(Strand(KINDS), Prices()))
+        self.assertEqual(keys, sorted(keys))
+
+    def test_objects_have_the_listed_attributes_from_the_beginning(self):
+        self.assertLessEqual({"kinds", "size", "unlike_pairs", "ends_unlike", "variety"}, set(vars(Strand([1, 2]))))
+        self.assertLessEqual({"quiet", "odd", "edge", "strife", "counts"}, set(vars(Tally())))
+        self.assertLessEqual({"quiet", "odd", "edge", "strife"}, set(vars(Prices())))
+        self.assertLessEqual({"strand", "parties", "size", "lone"}, set(vars(Book(Strand([1, 2]), [[0], [1]]))))
+
+    def test_a_few_seconds(self):
+        begin = time.monotonic()
+        for kinds in ([1] * 24, [1, 2] * 12, [1, 2, 3] * 8, list(range(24)), [1] * 12 + [2] * 12):
+            strand = Strand(kinds)
+            order = list(range(22, 0, -1))
+            book = book_of(strand, order)
+            play_book(book)
+            mend(Book(strand, strand.stretches()))
+            parties_by(strand, [(0, 23), (1, 22)] * 150)
+            table = floors(strand, Prices())
+            check_floors(strand, Prices(), table)
+            least_order(strand, Prices(quiet=-5))
+            greatest_total(strand, Prices())
+            ring_book(strand, order)
+        self.assertLess(time.monotonic() - begin, 20)
+
+
+if __name__ == "__main__":
+    unittest.main()
