@@ -1,5 +1,8 @@
 """What the tests share: refusals as tuples, and walks that do not use the package's own plays."""
 
+import random
+from collections import Counter
+from functools import cache
 from itertools import combinations, permutations, product
 
 from beadmoot.errors import MootError
@@ -92,6 +95,7 @@ def book_by_walk(kinds, order, closed=False):
     return tuple(groups_by(kinds, walk(kinds, order, closed)[1]))
 
 
+@cache
 def all_groupings(size):
     """Return all groupings of the numbers below size, as tuples of tuples in ascending order."""
     if size == 0:
@@ -165,3 +169,32 @@ def plain_good(kinds, parties):
 
 def plain_coarser(parties, finer):
     return all(any(set(small) <= set(large) for large in parties) for small in finer)
+
+
+@cache
+def walked_outcomes(kinds, closed=False):
+    """Return a dict: the number of orders for each (parties, edges, odd, strife, last two beads unlike), all walked."""
+    size = len(kinds)
+    found = Counter()
+    for order in all_ring_orders(size) if closed else all_orders(size):
+        marks, met = walk(kinds, order, closed)
+        last = [kinds[bead] for bead in range(size) if bead not in order]
+        parties = len(groups_by(kinds, met))
+        found[(parties, marks.count("edge"), marks.count("odd"), marks.count("strife"), int(last[0] != last[1]))] += 1
+    return found
+
+
+@cache
+def good_books(kinds):
+    """Return the parties of all good books of a small strand."""
+    return [parties for parties in all_books(kinds) if plain_good(kinds, parties)]
+
+
+def lone_of(parties):
+    """Return the number of parties with only one bead."""
+    return len([party for party in parties if len(party) == 1])
+
+
+def random_strands(seed, size, varieties):
+    chance = random.Random(seed)
+    return [Strand([chance.randrange(variety) for _ in range(size)]) for variety in varieties]

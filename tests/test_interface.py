@@ -5,13 +5,16 @@ import unittest
 from pathlib import Path
 
 from beadmoot.books import Book
+from beadmoot.census import census
 from beadmoot.gaps import gaps, narrow_gaps
 from beadmoot.orders import check_run, marks_of
+from beadmoot.outcomes import Outcomes
 from beadmoot.parties import book_of
 from beadmoot.rows import Row
 from beadmoot.spans import floors
 from beadmoot.strands import Strand
 from beadmoot.tallies import Prices, Tally, mark_of
+from beadmoot.twokinds import two_kind_numbers
 from tests.helpers import refusal
 
 FUNCTIONS = {
@@ -27,6 +30,12 @@ FUNCTIONS = {
     "mending": ["joins_needed(book)", "mend(book)"],
     "spans": ["floors(strand, prices)", "check_floors(strand, prices, table)", "least_total(strand, prices)",
               "greatest_total(strand, prices)", "least_order(strand, prices)"],
+    "ranges": ["ranges(strand)", "check_ranges(strand, table)"],
+    "outcomes": ["ring_rows(strand)"],
+    "totals": ["totals(strand, prices)", "order_with_total(strand, prices, total)"],
+    "census": ["count_books(strand)", "census(strand)", "count_above(book)"],
+    "numbering": ["book_at(strand, number)", "number_of(book)"],
+    "twokinds": ["two_kind_numbers(strand)", "lone_set(strand)"],
 }
 CLASSES = {
     "strands": {"Strand(kinds)": ["stretches(self)", "mirrored(self)", "turned(self, bead)", "__iter__(self)"]},
@@ -45,7 +54,12 @@ CLASSES = {
     "books": {"Book(strand, parties)": [
         "party_of(self, bead)", "joined(self, a, b)", "common(self, other)", "__iter__(self)",
         "__contains__(self, pair)"]},
+    "outcomes": {"Outcomes(strand)": [
+        "reason(self, parties, edges)", "order(self, parties, edges)", "book(self, parties)", "__iter__(self)",
+        "__contains__(self, outcome)"]},
 }
+# What the interface does not list, but the package needs.
+HELPER = "shapes"
 
 
 def module(name):
@@ -88,11 +102,11 @@ class Interface(unittest.TestCase):
     def test_only_what_is_built_stands_in_the_package(self):
         folder = Path(module("strands").__file__).parent
         names = sorted(path.stem for path in folder.glob("*.py"))
-        self.assertEqual(names, sorted([*FUNCTIONS, "strands", "rows", "errors", "__init__"]))
+        self.assertEqual(names, sorted({*FUNCTIONS, *CLASSES, HELPER, "errors", "__init__"}))
 
 
 class Examples(unittest.TestCase):
-    """The examples of the interface section and of point 21, word by word."""
+    """The examples of the interface section and of the points, word by word."""
 
     def setUp(self):
         self.strand = Strand([1, 2, 1, 3, 1])
@@ -123,6 +137,18 @@ class Examples(unittest.TestCase):
     def test_parties_and_spans(self):
         self.assertEqual(book_of(self.strand, [1, 3, 2]).parties, ((0, 2, 4), (1,), (3,)))
         self.assertEqual(floors(self.strand, Prices())[(0, 3)], 1)
+
+    def test_outcomes(self):
+        outcomes = Outcomes(self.strand)
+        self.assertEqual(outcomes.rows, ((3, 2, 0, 0, 1), (4, 1, 2, 0, 0)))
+        self.assertEqual(outcomes.reason(5, 0), ("many parties", 4))
+        self.assertEqual(outcomes.reason(3, 2), ("many edges", 1))
+        self.assertEqual(Outcomes(Strand([1, 2])).rows, ((2, 0, 0, 0, 0),))
+
+    def test_census_and_two_kinds(self):
+        self.assertEqual(census(self.strand), {(3, 2): 1, (4, 3): 1})
+        self.assertEqual(census(Strand([7, 7, 7])), {(1, 0): 1})
+        self.assertEqual(two_kind_numbers(Strand([1, 2, 1, 2, 1])), (3, 2, 0, 1, 2))
 
     def test_readme(self):
         path = Path(__file__).parent.parent / "README.md"

@@ -3,16 +3,22 @@ import time
 import unittest
 
 from beadmoot.books import Book, is_coarser
+from beadmoot.census import census, count_above, count_books
 from beadmoot.gaps import gaps, is_good, narrow_gaps, parties_round
 from beadmoot.mending import joins_needed, mend
+from beadmoot.numbering import book_at, number_of
 from beadmoot.orders import check_run, marks_of, play, steps, tally_of, total_of
+from beadmoot.outcomes import Outcomes, ring_rows
 from beadmoot.parties import book_of, ended_parties, parties_by, parties_so_far, ring_book
 from beadmoot.playing import book_numbers, play_book
+from beadmoot.ranges import check_ranges, ranges
 from beadmoot.rings import Ring, ring_play
 from beadmoot.rows import Row
 from beadmoot.spans import check_floors, floors, greatest_total, least_order, least_total
 from beadmoot.strands import Strand
 from beadmoot.tallies import Prices, Tally, tally_sum
+from beadmoot.totals import order_with_total, totals
+from beadmoot.twokinds import lone_set, two_kind_numbers
 from tests.helpers import refusal
 
 KINDS = [1, 2, 1, 3, 1, 2, 3]
@@ -38,6 +44,8 @@ def calls():
     prices = Prices(quiet=-1, odd=2, edge=3, strife=-4)
     row = play(strand, ORDER[:2])
     table = floors(strand, prices)
+    outcomes = Outcomes(strand)
+    two = Strand([1, 2, 1, 1, 2, 1, 2])
     return [
         (Strand, [KINDS[:]]), (strand.stretches, []), (strand.mirrored, []), (strand.turned, [3]),
         (tally_sum, [Tally(1), Tally(0, 1)]), (prices.total, [Tally(1, 2, 3, 4)]), (prices.negated, []),
@@ -52,6 +60,11 @@ def calls():
         (play_book, [book]), (joins_needed, [bad]), (mend, [bad]), (floors, [strand, prices]),
         (check_floors, [strand, prices, table]), (least_total, [strand, prices]), (greatest_total, [strand, prices]),
         (least_order, [strand, prices]),
+        (ranges, [strand]), (check_ranges, [strand, ranges(strand)]), (Outcomes, [strand]),
+        (outcomes.reason, [9, 0]), (outcomes.order, [5, 1]), (outcomes.book, [5]), (outcomes.__contains__, [(5, 1)]),
+        (list, [outcomes]), (ring_rows, [strand]), (totals, [strand, prices]), (order_with_total, [strand, prices, 2]),
+        (count_books, [strand]), (census, [strand]), (count_above, [book]), (book_at, [strand, 1]),
+        (number_of, [book]), (two_kind_numbers, [two]), (lone_set, [two]),
     ]
 
 
@@ -93,25 +106,31 @@ class Promises(unittest.TestCase):
     def test_nothing_changes_behind_an_error(self):
         strand = Strand(KINDS)
         row, ring, book = play(strand, ORDER[:2]), ring_play(strand, ORDER), book_of(strand, ORDER)
-        before = shown([strand, row, ring, book])
+        outcomes = Outcomes(strand)
+        before = shown([strand, row, ring, book, outcomes])
         for call, arguments in (
                 (strand.turned, [7]), (row.take, [3]), (row.take, [0]), (row.take, [7]), (row.mark, [3]),
                 (row.neighbours, [1]), (row.take_round, [[4, 5]]), (row.take_round, [[4, 0]]), (row.grow, [-1]),
                 (ring.take, [0]), (ring.take, [3]), (ring.take, [-1]), (ring.neighbours, [1]),
                 (book.party_of, [9]), (book.joined, [0, 9]), (book.joined, [0, 1]),
-                (book.common, [Book(Strand([1, 1]), [[0, 1]])])):
+                (book.common, [Book(Strand([1, 1]), [[0, 1]])]), (outcomes.order, [9, 0]), (outcomes.book, [0]),
+                (check_ranges, [strand, {}]), (order_with_total, [strand, Prices(), 99]), (book_at, [strand, -1]),
+                (lone_set, [strand])):
             self.assertIsNotNone(refusal(call, *arguments), call)
-        self.assertEqual(shown([strand, row, ring, book]), before)
+        self.assertEqual(shown([strand, row, ring, book, outcomes]), before)
 
     def test_keys_of_dicts_ascend(self):
-        keys = list(floors(Strand(KINDS), Prices()))
-        self.assertEqual(keys, sorted(keys))
+        strand = Strand(KINDS)
+        for found in (floors(strand, Prices()), ranges(strand), census(strand)):
+            self.assertEqual(list(found), sorted(found))
+            self.assertGreater(len(found), 1)
 
     def test_objects_have_the_listed_attributes_from_the_beginning(self):
         self.assertLessEqual({"kinds", "size", "unlike_pairs", "ends_unlike", "variety"}, set(vars(Strand([1, 2]))))
         self.assertLessEqual({"quiet", "odd", "edge", "strife", "counts"}, set(vars(Tally())))
         self.assertLessEqual({"quiet", "odd", "edge", "strife"}, set(vars(Prices())))
         self.assertLessEqual({"strand", "parties", "size", "lone"}, set(vars(Book(Strand([1, 2]), [[0], [1]]))))
+        self.assertLessEqual({"strand", "rows"}, set(vars(Outcomes(Strand([1, 2])))))
 
     def test_a_few_seconds(self):
         begin = time.monotonic()
@@ -127,7 +146,22 @@ class Promises(unittest.TestCase):
             least_order(strand, Prices(quiet=-5))
             greatest_total(strand, Prices())
             ring_book(strand, order)
+            self.calls_of_stage_3(strand)
         self.assertLess(time.monotonic() - begin, 20)
+
+    def calls_of_stage_3(self, strand):
+        check_ranges(strand, ranges(strand))
+        outcomes = Outcomes(strand)
+        for row in outcomes:
+            outcomes.order(row[0], row[4])
+            outcomes.book(row[0])
+        ring_rows(strand)
+        order_with_total(strand, Prices(quiet=3), totals(strand, Prices(quiet=3))[0])
+        number_of(book_at(strand, count_books(strand) - 1))
+        count_above(Book(strand, strand.stretches()))
+        if strand.variety == 2:
+            two_kind_numbers(strand)
+            lone_set(strand)
 
 
 if __name__ == "__main__":
