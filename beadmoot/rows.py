@@ -1,7 +1,7 @@
 """Rows: strands in play, whose inner beads are taken out."""
 
-from beadmoot.errors import BadKind, EndBead, GoneBead, NotApart, NothingToUndo, RowFull
-from beadmoot.strands import Strand, check_bead
+from beadmoot.errors import EndBead, GoneBead, NotApart, NothingToUndo, RowFull
+from beadmoot.strands import Strand, check_bead, check_kind
 from beadmoot.tallies import count_marks, mark_of
 
 
@@ -66,8 +66,7 @@ class Row:
 
     def grow(self, kind):
         """Add a bead behind the last one and return its number."""
-        if not 0 <= kind <= Strand.TOP_KIND:
-            raise BadKind(kind)
+        check_kind(kind)
         if len(self._kinds) == Strand.MOST:
             raise RowFull()
         bead = len(self._kinds)

@@ -1,6 +1,6 @@
 """Strands: rows of beads, each bead with a kind."""
 
-from beadmoot.errors import BadStrand, NoSuchBead
+from beadmoot.errors import BadKind, BadStrand, NoSuchBead
 
 
 def check_bead(bead, size):
@@ -20,6 +20,12 @@ def unlike_places(kinds):
     """Return the places of the closed strand whose two beads are unlike, in ascending order."""
     size = len(kinds)
     return [place for place in range(size) if kinds[place] != kinds[(place + 1) % size]]
+
+
+def check_kind(kind):
+    """Raise BadKind if a bead cannot have this kind."""
+    if not 0 <= kind <= Strand.TOP_KIND:
+        raise BadKind(kind)
 
 
 class Strand:

@@ -198,3 +198,37 @@ def lone_of(parties):
 def random_strands(seed, size, varieties):
     chance = random.Random(seed)
     return [Strand([chance.randrange(variety) for _ in range(size)]) for variety in varieties]
+
+
+def price_of(prices, marks):
+    """Return the price of a list of marks."""
+    worth = {"quiet": prices.quiet, "odd": prices.odd, "edge": prices.edge, "strife": prices.strife}
+    return sum(worth[mark] for mark in marks)
+
+
+def toll_of(kinds, run):
+    """Return the number of edge and strife takings of a run, walked."""
+    marks = walk(kinds, run)[0]
+    return marks.count("edge") + marks.count("strife")
+
+
+def all_runs(size):
+    """Return all runs of a strand with this many beads."""
+    return [list(run) for many in range(size - 1) for run in permutations(range(1, size - 1), many)]
+
+
+@cache
+def walked_runs(kinds):
+    """Return pairs (run, marks) for all runs of a small strand."""
+    return [(run, walk(kinds, run)[0]) for run in all_runs(len(kinds))]
+
+
+@cache
+def walked_orders(kinds):
+    """Return pairs (order, marks) for all orders of a small strand."""
+    return [(order, walk(kinds, order)[0]) for order in all_orders(len(kinds))]
+
+
+def left_by(size, run):
+    """Return the stand that a run leaves."""
+    return [bead for bead in range(size) if bead not in run]

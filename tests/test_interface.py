@@ -6,6 +6,8 @@ from pathlib import Path
 
 from beadmoot.books import Book
 from beadmoot.census import census
+from beadmoot.chances import mean_tally, order_counts
+from beadmoot.changes import least_changes
 from beadmoot.gaps import gaps, narrow_gaps
 from beadmoot.orders import check_run, marks_of
 from beadmoot.outcomes import Outcomes
@@ -14,6 +16,8 @@ from beadmoot.rows import Row
 from beadmoot.spans import floors
 from beadmoot.strands import Strand
 from beadmoot.tallies import Prices, Tally, mark_of
+from beadmoot.thrift import losses, thrift_order
+from beadmoot.tolls import greatest_toll, least_toll
 from beadmoot.twokinds import two_kind_numbers
 from tests.helpers import refusal
 
@@ -36,6 +40,15 @@ FUNCTIONS = {
     "census": ["count_books(strand)", "census(strand)", "count_above(book)"],
     "numbering": ["book_at(strand, number)", "number_of(book)"],
     "twokinds": ["two_kind_numbers(strand)", "lone_set(strand)"],
+    "chances": ["order_counts(strand)", "mean_tally(strand)"],
+    "tolls": ["least_toll(strand)", "greatest_toll(strand)", "order_with_toll(strand, toll)"],
+    "thrift": ["losses(row)", "thrift_order(strand)", "first_totals(strand, prices)", "last_totals(strand, prices)"],
+    "purses": ["price_to_leave(strand, prices, beads)", "run_to_leave(strand, prices, beads)",
+               "leave_curve(strand, prices)", "fewest_left(strand, prices, coins)",
+               "share_purse(strands, prices, coins)"],
+    "changes": ["is_free(strand)", "free_order(strand)", "least_changes(strand)", "insert_bead(strand, place, kind)",
+                "remove_bead(strand, bead)", "change_kind(strand, bead, kind)"],
+    "logs": ["log_of(strand, order)", "order_of(log)", "fits(log, strand)"],
 }
 CLASSES = {
     "strands": {"Strand(kinds)": ["stretches(self)", "mirrored(self)", "turned(self, bead)", "__iter__(self)"]},
@@ -57,6 +70,7 @@ CLASSES = {
     "outcomes": {"Outcomes(strand)": [
         "reason(self, parties, edges)", "order(self, parties, edges)", "book(self, parties)", "__iter__(self)",
         "__contains__(self, outcome)"]},
+    "logs": {"Log(entries, *, ends_alike)": ["tally(self)", "__iter__(self)"]},
 }
 # What the interface does not list, but the package needs.
 HELPER = "shapes"
@@ -149,6 +163,16 @@ class Examples(unittest.TestCase):
         self.assertEqual(census(self.strand), {(3, 2): 1, (4, 3): 1})
         self.assertEqual(census(Strand([7, 7, 7])), {(1, 0): 1})
         self.assertEqual(two_kind_numbers(Strand([1, 2, 1, 2, 1])), (3, 2, 0, 1, 2))
+
+    def test_chances(self):
+        self.assertEqual(order_counts(self.strand), {(3, 0): 2, (3, 1): 2, (4, 0): 2})
+        self.assertEqual(mean_tally(self.strand), ((1, 3), (5, 3), (1, 3), (2, 3)))
+
+    def test_tolls_thrift_and_changes(self):
+        self.assertEqual((least_toll(self.strand), greatest_toll(self.strand)), (0, 2))
+        self.assertEqual(losses(Row(self.strand)), {1: 0, 2: 2, 3: 0})
+        self.assertEqual(thrift_order(self.strand), [1, 3, 2])
+        self.assertEqual(least_changes(Strand([1, 2, 3, 2, 1])), (1, [2]))
 
     def test_readme(self):
         path = Path(__file__).parent.parent / "README.md"

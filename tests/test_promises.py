@@ -4,19 +4,25 @@ import unittest
 
 from beadmoot.books import Book, is_coarser
 from beadmoot.census import census, count_above, count_books
+from beadmoot.chances import mean_tally, order_counts
+from beadmoot.changes import change_kind, free_order, insert_bead, is_free, least_changes, remove_bead
 from beadmoot.gaps import gaps, is_good, narrow_gaps, parties_round
+from beadmoot.logs import Log, fits, log_of, order_of
 from beadmoot.mending import joins_needed, mend
 from beadmoot.numbering import book_at, number_of
 from beadmoot.orders import check_run, marks_of, play, steps, tally_of, total_of
 from beadmoot.outcomes import Outcomes, ring_rows
 from beadmoot.parties import book_of, ended_parties, parties_by, parties_so_far, ring_book
 from beadmoot.playing import book_numbers, play_book
+from beadmoot.purses import fewest_left, leave_curve, price_to_leave, run_to_leave, share_purse
 from beadmoot.ranges import check_ranges, ranges
 from beadmoot.rings import Ring, ring_play
 from beadmoot.rows import Row
 from beadmoot.spans import check_floors, floors, greatest_total, least_order, least_total
 from beadmoot.strands import Strand
 from beadmoot.tallies import Prices, Tally, tally_sum
+from beadmoot.thrift import first_totals, last_totals, losses, thrift_order
+from beadmoot.tolls import greatest_toll, least_toll, order_with_toll
 from beadmoot.totals import order_with_total, totals
 from beadmoot.twokinds import lone_set, two_kind_numbers
 from tests.helpers import refusal
@@ -46,6 +52,8 @@ def calls():
     table = floors(strand, prices)
     outcomes = Outcomes(strand)
     two = Strand([1, 2, 1, 1, 2, 1, 2])
+    log = log_of(strand, ORDER)
+    entries = [(2, "odd"), (2, "left"), (1, "right")]
     return [
         (Strand, [KINDS[:]]), (strand.stretches, []), (strand.mirrored, []), (strand.turned, [3]),
         (tally_sum, [Tally(1), Tally(0, 1)]), (prices.total, [Tally(1, 2, 3, 4)]), (prices.negated, []),
@@ -65,6 +73,14 @@ def calls():
         (list, [outcomes]), (ring_rows, [strand]), (totals, [strand, prices]), (order_with_total, [strand, prices, 2]),
         (count_books, [strand]), (census, [strand]), (count_above, [book]), (book_at, [strand, 1]),
         (number_of, [book]), (two_kind_numbers, [two]), (lone_set, [two]),
+        (order_counts, [strand]), (mean_tally, [strand]), (least_toll, [strand]), (greatest_toll, [strand]),
+        (order_with_toll, [strand, 3]), (losses, [row]), (thrift_order, [strand]), (first_totals, [strand, prices]),
+        (last_totals, [strand, prices]), (price_to_leave, [strand, prices, [0, 2, 6]]),
+        (run_to_leave, [strand, prices, [0, 2, 6]]), (leave_curve, [strand, prices]),
+        (fewest_left, [strand, prices, 1]), (share_purse, [[strand, two], prices, 1]), (is_free, [strand]),
+        (free_order, [Strand([1, 2, 1, 3, 1])]), (least_changes, [strand]), (insert_bead, [strand, 2, 5]),
+        (remove_bead, [strand, 2]), (change_kind, [strand, 2, 5]), (lambda more: Log(more, ends_alike=True), [entries]),
+        (log.tally, []), (list, [log]), (log_of, [strand, ORDER[:]]), (order_of, [log]), (fits, [log, strand]),
     ]
 
 
@@ -115,13 +131,17 @@ class Promises(unittest.TestCase):
                 (book.party_of, [9]), (book.joined, [0, 9]), (book.joined, [0, 1]),
                 (book.common, [Book(Strand([1, 1]), [[0, 1]])]), (outcomes.order, [9, 0]), (outcomes.book, [0]),
                 (check_ranges, [strand, {}]), (order_with_total, [strand, Prices(), 99]), (book_at, [strand, -1]),
-                (lone_set, [strand])):
+                (lone_set, [strand]), (order_with_toll, [strand, 99]), (price_to_leave, [strand, Prices(), [0]]),
+                (fewest_left, [strand, Prices(), -1]), (share_purse, [[strand], Prices(), -1]),
+                (free_order, [strand]), (insert_bead, [strand, 0, 1]), (remove_bead, [strand, 0]),
+                (change_kind, [strand, 0, -1]), (log_of, [strand, [1]])):
             self.assertIsNotNone(refusal(call, *arguments), call)
         self.assertEqual(shown([strand, row, ring, book, outcomes]), before)
 
     def test_keys_of_dicts_ascend(self):
         strand = Strand(KINDS)
-        for found in (floors(strand, Prices()), ranges(strand), census(strand)):
+        for found in (floors(strand, Prices()), ranges(strand), census(strand), order_counts(strand),
+                      losses(Row(strand)), first_totals(strand, Prices()), last_totals(strand, Prices())):
             self.assertEqual(list(found), sorted(found))
             self.assertGreater(len(found), 1)
 
@@ -131,6 +151,18 @@ class Promises(unittest.TestCase):
         self.assertLessEqual({"quiet", "odd", "edge", "strife"}, set(vars(Prices())))
         self.assertLessEqual({"strand", "parties", "size", "lone"}, set(vars(Book(Strand([1, 2]), [[0], [1]]))))
         self.assertLessEqual({"strand", "rows"}, set(vars(Outcomes(Strand([1, 2])))))
+        self.assertLessEqual({"entries", "ends_alike", "size"}, set(vars(Log([], ends_alike=True))))
+
+    def test_lists_inside_tuples_are_new(self):
+        strand = Strand(KINDS)
+        for call, arguments in ((least_changes, [strand]), (fewest_left, [strand, Prices(), 1]),
+                                (share_purse, [[strand, strand], Prices(), 3])):
+            before = copy.deepcopy(call(*arguments))
+            inner = call(*arguments)[1]
+            self.assertTrue(inner)
+            inner[0] = None
+            inner.clear()
+            self.assertEqual(call(*arguments), before)
 
     def test_a_few_seconds(self):
         begin = time.monotonic()
@@ -147,6 +179,7 @@ class Promises(unittest.TestCase):
             greatest_total(strand, Prices())
             ring_book(strand, order)
             self.calls_of_stage_3(strand)
+            self.calls_of_stage_4(strand)
         self.assertLess(time.monotonic() - begin, 20)
 
     def calls_of_stage_3(self, strand):
@@ -162,6 +195,18 @@ class Promises(unittest.TestCase):
         if strand.variety == 2:
             two_kind_numbers(strand)
             lone_set(strand)
+
+    def calls_of_stage_4(self, strand):
+        order_counts(Strand(strand.kinds[::2]))
+        mean_tally(strand)
+        order_with_toll(strand, greatest_toll(strand))
+        thrift_order(strand)
+        first_totals(strand, Prices())
+        last_totals(strand, Prices())
+        share_purse([strand] * 12, Prices(), 50)
+        least_changes(strand)
+        log = log_of(strand, list(range(22, 0, -1)))
+        fits(log, strand)
 
 
 if __name__ == "__main__":

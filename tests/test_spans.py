@@ -5,17 +5,12 @@ from itertools import permutations
 from beadmoot.spans import check_floors, floors, greatest_total, least_order, least_total
 from beadmoot.strands import Strand
 from beadmoot.tallies import Prices
-from tests.helpers import all_orders, all_strands, refusal, walk
+from tests.helpers import all_orders, all_strands, price_of, refusal, walk
 
 STRAND = Strand([1, 2, 1, 3, 1])
 PRICES = (Prices(), Prices().negated(), Prices(quiet=3, odd=-2, edge=5, strife=-7), Prices(edge=0, strife=0),
           Prices(quiet=10 ** 9, odd=-10 ** 9, edge=10 ** 9, strife=-10 ** 9))
 EXAMPLE = {(0, 1): 0, (0, 2): 0, (0, 3): 1, (0, 4): 0, (1, 2): 0, (1, 3): 1, (1, 4): 1, (2, 3): 0, (2, 4): 0, (3, 4): 0}
-
-
-def price_of(prices, marks):
-    worth = {"quiet": prices.quiet, "odd": prices.odd, "edge": prices.edge, "strife": prices.strife}
-    return sum(worth[mark] for mark in marks)
 
 
 def prices_of_span(strand, prices, i, j):
