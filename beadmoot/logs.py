@@ -7,6 +7,23 @@ from beadmoot.strands import Strand
 from beadmoot.tallies import count_marks
 
 LOG_MARKS = ("quiet", "odd", "left", "right", "strife")
+# Three answers for each mark: is the bead like its left neighbour, is it like its right one, are these two alike?
+TOLD = {
+    "quiet": (True, True, True),
+    "odd": (False, False, True),
+    "left": (True, False, False),
+    "right": (False, True, False),
+    "strife": (False, False, False),
+}
+
+
+def check_entries(entries, size):
+    """Raise BadLog if no strand with this many beads can have these entries for its first takings."""
+    if len(entries) > size - 2:
+        raise BadLog(None)
+    for at, (place, mark) in enumerate(entries):
+        if not 1 <= place <= size - at - 2 or mark not in LOG_MARKS:
+            raise BadLog(at)
 
 
 class Log:
@@ -14,11 +31,7 @@ class Log:
 
     def __init__(self, entries, *, ends_alike):
         self.size = len(entries) + 2
-        if self.size > Strand.MOST:
-            raise BadLog(None)
-        for at, (place, mark) in enumerate(entries):
-            if not 1 <= place <= self.size - at - 2 or mark not in LOG_MARKS:
-                raise BadLog(at)
+        check_entries(entries, min(self.size, Strand.MOST))
         self.entries = tuple([(place, mark) for place, mark in entries])
         self.ends_alike = ends_alike
 
@@ -50,13 +63,19 @@ def log_of(strand, order):
     return Log(entries, ends_alike=strand.ends_unlike == 0)
 
 
+def beads_told(entries, size):
+    """Return, for each entry, the taken bead between its two neighbours: a triple (left, bead, right)."""
+    standing = list(range(size))
+    found = []
+    for place, _ in entries:
+        found.append((standing[place - 1], standing[place], standing[place + 1]))
+        del standing[place]
+    return found
+
+
 def order_of(log):
     """Return the order that a log tells."""
-    standing = list(range(log.size))
-    order = []
-    for place, _ in log.entries:
-        order.append(standing.pop(place))
-    return order
+    return [bead for _, bead, _ in beads_told(log.entries, log.size)]
 
 
 def fits(log, strand):

@@ -18,6 +18,43 @@ def row_of_entry(strand, entry):
     return parties, odd, strife, least, greatest
 
 
+def why_not_parties(entries, parties):
+    """Return why a number of parties is not in the entries, None if it is; their numbers are consecutive."""
+    least = entries[0][0]
+    greatest = entries[-1][0]
+    if parties < least:
+        return "few parties", least
+    if parties > greatest:
+        return "many parties", greatest
+    return None
+
+
+def why_not(entries, parties, edges):
+    """Return why entries (parties, least_edges, greatest_edges) do not allow an outcome, None if they do."""
+    why = why_not_parties(entries, parties)
+    if why is not None:
+        return why
+    _, least, greatest = entries[parties - entries[0][0]]
+    if edges < least:
+        return "few edges", least
+    if edges > greatest:
+        return "many edges", greatest
+    return None
+
+
+def check_outcome(entries, parties, edges):
+    """Raise CannotBe if entries (parties, least_edges, greatest_edges) do not allow an outcome."""
+    why = why_not(entries, parties, edges)
+    if why is not None:
+        word, bound = why
+        raise CannotBe(word, bound)
+
+
+def edge_entries(outcomes):
+    """Return the rows of outcomes as entries (parties, least_edges, greatest_edges)."""
+    return [(row[0], row[3], row[4]) for row in outcomes.rows]
+
+
 class Outcomes:
     """The outcomes that the orders of a strand can have; it never changes."""
 
@@ -28,28 +65,17 @@ class Outcomes:
 
     def reason(self, parties, edges):
         """Return why an outcome is not possible, None if it is possible."""
-        why = self._reason_of_parties(parties)
-        if why is not None:
-            return why
-        least, greatest = self._row(parties)[3:]
-        if edges < least:
-            return "few edges", least
-        if edges > greatest:
-            return "many edges", greatest
-        return None
+        return why_not(edge_entries(self), parties, edges)
 
     def order(self, parties, edges):
         """Return an order with this outcome."""
-        why = self.reason(parties, edges)
-        if why is not None:
-            word, bound = why
-            raise CannotBe(word, bound)
+        check_outcome(edge_entries(self), parties, edges)
         strife = self._row(parties)[2]
         return run_within(self.strand, self._ranges, 0, self.strand.size - 1, strife, edges)
 
     def book(self, parties):
         """Return a good book with this number of parties and with as many lone parties as possible."""
-        why = self._reason_of_parties(parties)
+        why = why_not_parties(self.rows, parties)
         if why is not None:
             word, bound = why
             raise CannotBe(word, bound)
@@ -66,16 +92,6 @@ class Outcomes:
     def _row(self, parties):
         """Return the row of a possible number of parties; the numbers in the rows are consecutive."""
         return self.rows[parties - self.rows[0][0]]
-
-    def _reason_of_parties(self, parties):
-        """Return why a number of parties is not possible, None if it is possible."""
-        least = self.rows[0][0]
-        greatest = self.rows[-1][0]
-        if parties < least:
-            return "few parties", least
-        if parties > greatest:
-            return "many parties", greatest
-        return None
 
 
 def ring_ends(strand, parties):

@@ -17,14 +17,14 @@ def entries_by(strand, table, i, k, j):
             for s, low, high in table[(i, k)] for t, lower, higher in table[(k, j)]]
 
 
-def one_for_each_strife(entries):
-    """Return the widest entry for each number of strife takings, in ascending order."""
+def widest_entries(entries):
+    """Return the widest entry (number, low, high) for each number, in ascending order of the numbers."""
     lows = {}
     highs = {}
-    for strife, low, high in entries:
-        lows[strife] = min(low, lows.get(strife, low))
-        highs[strife] = max(high, highs.get(strife, high))
-    return tuple([(strife, lows[strife], highs[strife]) for strife in sorted(lows)])
+    for number, low, high in entries:
+        lows[number] = min(low, lows.get(number, low))
+        highs[number] = max(high, highs.get(number, high))
+    return tuple([(number, lows[number], highs[number]) for number in sorted(lows)])
 
 
 def ranges(strand):
@@ -32,7 +32,7 @@ def ranges(strand):
     table = {}
     for i, j in narrow_first(strand):
         entries = [entry for k in range(i + 1, j) for entry in entries_by(strand, table, i, k, j)]
-        table[(i, j)] = one_for_each_strife(entries) if entries else ((0, 0, 0),)
+        table[(i, j)] = widest_entries(entries) if entries else ((0, 0, 0),)
     return {span: table[span] for span in all_spans(strand)}
 
 

@@ -232,3 +232,35 @@ def walked_orders(kinds):
 def left_by(size, run):
     """Return the stand that a run leaves."""
     return [bead for bead in range(size) if bead not in run]
+
+
+def plain_log(kinds, order):
+    """Return the entries of a run by the words of point 70."""
+    row = list(range(len(kinds)))
+    entries = []
+    for bead in order:
+        place = row.index(bead)
+        left, right = kinds[row[place - 1]], kinds[row[place + 1]]
+        mark = plain_mark(left, kinds[bead], right)
+        if mark == "edge":
+            mark = "left" if kinds[bead] == left else "right"
+        entries.append((place, mark))
+        row.remove(bead)
+    return tuple(entries)
+
+
+def plain_misfit(log):
+    """Return where the reading back of a log stops, by the words of point 73: a row of pairs, True for alike."""
+    pairs = [log.ends_alike]
+    for at in reversed(range(len(log.entries))):
+        place, mark = log.entries[at]
+        if pairs[place - 1] != (mark in ("quiet", "odd")):
+            return at
+        pairs[place - 1:place] = {"quiet": [True, True], "odd": [False, False], "left": [True, False],
+                                  "right": [False, True], "strife": [False, False]}[mark]
+    return None
+
+
+def last_places(many, mark="quiet"):
+    """Return the entries that always take the last inner bead of a strand with this many entries."""
+    return [(many - at, mark) for at in range(many)]

@@ -8,14 +8,18 @@ from beadmoot.books import Book
 from beadmoot.census import census
 from beadmoot.chances import mean_tally, order_counts
 from beadmoot.changes import least_changes
+from beadmoot.fitting import count_fits, freest
 from beadmoot.gaps import gaps, narrow_gaps
+from beadmoot.guide import certain, still
+from beadmoot.logs import LOG_MARKS, log_of
+from beadmoot.notation import read_log, write_log
 from beadmoot.orders import check_run, marks_of
 from beadmoot.outcomes import Outcomes
 from beadmoot.parties import book_of
 from beadmoot.rows import Row
 from beadmoot.spans import floors
 from beadmoot.strands import Strand
-from beadmoot.tallies import Prices, Tally, mark_of
+from beadmoot.tallies import MARKS, Prices, Tally, mark_of
 from beadmoot.thrift import losses, thrift_order
 from beadmoot.tolls import greatest_toll, least_toll
 from beadmoot.twokinds import two_kind_numbers
@@ -49,6 +53,15 @@ FUNCTIONS = {
     "changes": ["is_free(strand)", "free_order(strand)", "least_changes(strand)", "insert_bead(strand, place, kind)",
                 "remove_bead(strand, bead)", "change_kind(strand, bead, kind)"],
     "logs": ["log_of(strand, order)", "order_of(log)", "fits(log, strand)"],
+    "fitting": ["misfit(log)", "count_fits(log, many)", "fit_at(log, many, number)",
+                "number_of_fit(log, many, strand)", "book_from_log(log)", "freest(log)"],
+    "notation": ["write_log(log)", "read_log(text)"],
+    "words": ["word_misfit(word, *, ends_alike)", "log_from_word(word, *, ends_alike)",
+              "count_words(takings, *, ends_alike)", "tally_can_be(tally, *, ends_alike)",
+              "strand_with(tally, *, ends_alike)"],
+    "guide": ["still(row)", "keepers(row, parties, edges)", "guide(row, parties, edges)", "certain(row, a, b)"],
+    "garlands": ["join_strands(strands)", "past(strand, beads)", "ways(strand, beads)",
+                 "order_by_way(strand, beads, parties, edges)"],
 }
 CLASSES = {
     "strands": {"Strand(kinds)": ["stretches(self)", "mirrored(self)", "turned(self, bead)", "__iter__(self)"]},
@@ -71,6 +84,8 @@ CLASSES = {
         "reason(self, parties, edges)", "order(self, parties, edges)", "book(self, parties)", "__iter__(self)",
         "__contains__(self, outcome)"]},
     "logs": {"Log(entries, *, ends_alike)": ["tally(self)", "__iter__(self)"]},
+    "looks": {"Looks(size)": ["add(self, entries)", "many(self)", "tell(self, a, b)", "classes(self)",
+                              "fitting_strand(self)"]},
 }
 # What the interface does not list, but the package needs.
 HELPER = "shapes"
@@ -109,6 +124,10 @@ class Interface(unittest.TestCase):
             self.assertIsInstance(found["taken"], property)
         self.assertIsInstance(vars(Strand)["from_letters"], classmethod)
         self.assertEqual(str(inspect.signature(Strand.from_letters)), "(text)")
+
+    def test_marks(self):
+        self.assertEqual(MARKS, ("quiet", "odd", "edge", "strife"))
+        self.assertEqual(LOG_MARKS, ("quiet", "odd", "left", "right", "strife"))
 
     def test_steps_is_a_generator_function(self):
         self.assertTrue(inspect.isgeneratorfunction(module("orders").steps))
@@ -173,6 +192,19 @@ class Examples(unittest.TestCase):
         self.assertEqual(losses(Row(self.strand)), {1: 0, 2: 2, 3: 0})
         self.assertEqual(thrift_order(self.strand), [1, 3, 2])
         self.assertEqual(least_changes(Strand([1, 2, 3, 2, 1])), (1, [2]))
+
+    def test_logs_and_notation(self):
+        log = log_of(self.strand, [1, 3, 2])
+        self.assertEqual(write_log(log), "alike: 1o 2o 1q")
+        self.assertEqual(refusal(read_log, "alike: 1o "), ("BadText", 2))
+        self.assertEqual(count_fits(log, 3), 12)
+        self.assertEqual(freest(log).kinds, (0, 1, 0, 2, 0))
+
+    def test_guide(self):
+        row = Row(self.strand)
+        row.take(2)
+        self.assertEqual(still(row), [(4, 0, 0)])
+        self.assertEqual(certain(Row(self.strand), 0, 2), "open")
 
     def test_readme(self):
         path = Path(__file__).parent.parent / "README.md"

@@ -28,6 +28,8 @@ METHODS = set("""append clear copy count endswith extend find get index insert i
     rsplit rstrip setdefault split splitlines startswith strip update upper values zfill bit_length add discard
     sort""".split())
 BUILTINS = {name for name in dir(builtins) if not name.startswith("_")}
+PREFIXES = ("_wall", "_pe_", "_dcw_", "_enum_", "_cm_", "_twin_re_", "_lay_", "_law_", "_stub_", "_sre", "_WallAttr",
+            "_cold", "_tuplegetter", "_outside", "_record", "_written_out", "_member_names")
 BARRED = set("""register mro elements open input law version_info with_traceback add_note attrgetter breakpoint
     builtins compile copyright credits delattr dir eval exec exit gc globals help id importlib license locals
     methodcaller os quit super type vars sys""".split())
@@ -199,6 +201,26 @@ class Names(unittest.TestCase):
             self.assertNotIn(node.id, BARRED, name)
             if node.id == "_":
                 self.assertIsInstance(node.ctx, ast.Store)
+
+    def test_no_barred_beginnings(self):
+        words = [node.id for _, node in nodes(ast.Name)] + [node.attr for _, node in nodes(ast.Attribute)]
+        words += [node.name for _, node in nodes((ast.FunctionDef, ast.ClassDef))]
+        words += [node.arg for _, node in nodes((ast.arg, ast.keyword)) if node.arg]
+        for word in words:
+            self.assertFalse(word.startswith(PREFIXES), word)
+
+    def test_no_name_of_a_generator_is_used_twice(self):
+        names = [node.name for _, node in nodes(ast.FunctionDef)]
+        generators = [node.name for _, node in nodes(ast.FunctionDef)
+                      if any(isinstance(part, (ast.Yield, ast.YieldFrom)) for part in ast.walk(node))]
+        for name in generators:
+            self.assertEqual(names.count(name), 1)
+
+    def test_sets_are_not_added_to_beside_a_method_of_that_name(self):
+        own = {node.name for _, node in nodes(ast.FunctionDef)}
+        for name, node in nodes(ast.Call):
+            if isinstance(node.func, ast.Attribute) and node.func.attr in own & {"add", "discard"}:
+                self.fail((name, node.lineno))
 
     def test_imports_and_classes_are_not_hidden(self):
         for path, tree in parsed():

@@ -3,29 +3,9 @@ import unittest
 
 from beadmoot.logs import LOG_MARKS, Log, fits, log_of, order_of
 from beadmoot.strands import Strand
-from tests.helpers import all_orders, all_strands, plain_mark, random_strands, refusal, walk
+from tests.helpers import all_orders, all_strands, last_places, plain_log, random_strands, refusal, walk
 
 STRAND = Strand([1, 2, 1, 3, 1])
-
-
-def plain_log(kinds, order):
-    """Return the entries of an order by the words of point 70."""
-    row = list(range(len(kinds)))
-    entries = []
-    for bead in order:
-        place = row.index(bead)
-        left, right = kinds[row[place - 1]], kinds[row[place + 1]]
-        mark = plain_mark(left, kinds[bead], right)
-        if mark == "edge":
-            mark = "left" if kinds[bead] == left else "right"
-        entries.append((place, mark))
-        row.remove(bead)
-    return tuple(entries)
-
-
-def last_places(many):
-    """Return the entries that always take the last inner bead of a strand with this many entries."""
-    return [(many - at, "quiet") for at in range(many)]
 
 
 class Logs(unittest.TestCase):

@@ -6,9 +6,14 @@ from beadmoot.books import Book, is_coarser
 from beadmoot.census import census, count_above, count_books
 from beadmoot.chances import mean_tally, order_counts
 from beadmoot.changes import change_kind, free_order, insert_bead, is_free, least_changes, remove_bead
+from beadmoot.fitting import book_from_log, count_fits, fit_at, freest, misfit, number_of_fit
 from beadmoot.gaps import gaps, is_good, narrow_gaps, parties_round
+from beadmoot.garlands import join_strands, order_by_way, past, ways
+from beadmoot.guide import certain, guide, keepers, still
 from beadmoot.logs import Log, fits, log_of, order_of
+from beadmoot.looks import Looks
 from beadmoot.mending import joins_needed, mend
+from beadmoot.notation import read_log, write_log
 from beadmoot.numbering import book_at, number_of
 from beadmoot.orders import check_run, marks_of, play, steps, tally_of, total_of
 from beadmoot.outcomes import Outcomes, ring_rows
@@ -25,6 +30,7 @@ from beadmoot.thrift import first_totals, last_totals, losses, thrift_order
 from beadmoot.tolls import greatest_toll, least_toll, order_with_toll
 from beadmoot.totals import order_with_total, totals
 from beadmoot.twokinds import lone_set, two_kind_numbers
+from beadmoot.words import count_words, log_from_word, strand_with, tally_can_be, word_misfit
 from tests.helpers import refusal
 
 KINDS = [1, 2, 1, 3, 1, 2, 3]
@@ -81,6 +87,29 @@ def calls():
         (free_order, [Strand([1, 2, 1, 3, 1])]), (least_changes, [strand]), (insert_bead, [strand, 2, 5]),
         (remove_bead, [strand, 2]), (change_kind, [strand, 2, 5]), (lambda more: Log(more, ends_alike=True), [entries]),
         (log.tally, []), (list, [log]), (log_of, [strand, ORDER[:]]), (order_of, [log]), (fits, [log, strand]),
+    ] + calls_of_stage_5(strand, row, log)
+
+
+def calls_of_stage_5(strand, row, log):
+    """Return further pairs (call, arguments)."""
+    tally = Tally(1, 2, 3, 0)
+    word = ["odd", "edge", "odd", "quiet"]
+    looks = Looks(7)
+    looks.add([(1, "odd"), (2, "right")])
+    third = Strand([1, 3, 1])
+    return [
+        (misfit, [log]), (count_fits, [log, 4]), (fit_at, [log, 4, 7]), (number_of_fit, [log, 4, strand]),
+        (book_from_log, [log]), (freest, [log]), (write_log, [log]), (read_log, ["alike: 1o 2o 1q"]),
+        (lambda marks: word_misfit(marks, ends_alike=True), [word[:]]),
+        (lambda marks: log_from_word(marks, ends_alike=True), [word[:]]),
+        (lambda many: count_words(many, ends_alike=False), [5]),
+        (lambda counts: tally_can_be(counts, ends_alike=True), [tally]),
+        (lambda counts: strand_with(counts, ends_alike=True), [tally]),
+        (Looks(5).add, [[(1, "odd"), (1, "quiet")]]), (looks.classes, []), (looks.fitting_strand, []),
+        (looks.tell, [0, 2]), (still, [row]), (keepers, [row, *still(row)[0][:2]]),
+        (guide, [row, *still(row)[0][:2]]), (certain, [row, 0, 2]), (join_strands, [[third, third, third]]),
+        (past, [strand, [0, 2, 6]]), (ways, [strand, [0, 2, 6]]),
+        (order_by_way, [strand, [0, 2, 6], *ways(strand, [0, 2, 6])[0][:2]]),
     ]
 
 
@@ -123,7 +152,10 @@ class Promises(unittest.TestCase):
         strand = Strand(KINDS)
         row, ring, book = play(strand, ORDER[:2]), ring_play(strand, ORDER), book_of(strand, ORDER)
         outcomes = Outcomes(strand)
-        before = shown([strand, row, ring, book, outcomes])
+        log = log_of(strand, ORDER)
+        looks = Looks(7)
+        looks.add([(1, "odd")])
+        before = shown([strand, row, ring, book, outcomes, log, looks])
         for call, arguments in (
                 (strand.turned, [7]), (row.take, [3]), (row.take, [0]), (row.take, [7]), (row.mark, [3]),
                 (row.neighbours, [1]), (row.take_round, [[4, 5]]), (row.take_round, [[4, 0]]), (row.grow, [-1]),
@@ -134,9 +166,13 @@ class Promises(unittest.TestCase):
                 (lone_set, [strand]), (order_with_toll, [strand, 99]), (price_to_leave, [strand, Prices(), [0]]),
                 (fewest_left, [strand, Prices(), -1]), (share_purse, [[strand], Prices(), -1]),
                 (free_order, [strand]), (insert_bead, [strand, 0, 1]), (remove_bead, [strand, 0]),
-                (change_kind, [strand, 0, -1]), (log_of, [strand, [1]])):
+                (change_kind, [strand, 0, -1]), (log_of, [strand, [1]]), (fit_at, [log, 4, -1]),
+                (number_of_fit, [log, 2, strand]), (read_log, ["alike"]), (looks.add, [[(1, "strife"), (9, "odd")]]),
+                (looks.add, [[(2, "odd"), (1, "left")]]), (looks.tell, [0, 7]), (guide, [row, 0, 0]),
+                (certain, [row, 0, 7]), (join_strands, [[strand, strand]]), (past, [strand, [0]]),
+                (ways, [strand, [6]]), (order_by_way, [strand, [0, 6], 0, 0])):
             self.assertIsNotNone(refusal(call, *arguments), call)
-        self.assertEqual(shown([strand, row, ring, book, outcomes]), before)
+        self.assertEqual(shown([strand, row, ring, book, outcomes, log, looks]), before)
 
     def test_keys_of_dicts_ascend(self):
         strand = Strand(KINDS)
@@ -152,17 +188,20 @@ class Promises(unittest.TestCase):
         self.assertLessEqual({"strand", "parties", "size", "lone"}, set(vars(Book(Strand([1, 2]), [[0], [1]]))))
         self.assertLessEqual({"strand", "rows"}, set(vars(Outcomes(Strand([1, 2])))))
         self.assertLessEqual({"entries", "ends_alike", "size"}, set(vars(Log([], ends_alike=True))))
+        self.assertLessEqual({"size"}, set(vars(Looks(2))))
 
     def test_lists_inside_tuples_are_new(self):
         strand = Strand(KINDS)
         for call, arguments in ((least_changes, [strand]), (fewest_left, [strand, Prices(), 1]),
-                                (share_purse, [[strand, strand], Prices(), 3])):
-            before = copy.deepcopy(call(*arguments))
+                                (share_purse, [[strand, strand], Prices(), 3]),
+                                (join_strands, [[Strand([1, 2, 1])] * 3]),
+                                (lambda: strand_with(Tally(1, 2, 3, 0), ends_alike=True), [])):
+            before = shown(call(*arguments))
             inner = call(*arguments)[1]
             self.assertTrue(inner)
             inner[0] = None
             inner.clear()
-            self.assertEqual(call(*arguments), before)
+            self.assertEqual(shown(call(*arguments)), before)
 
     def test_a_few_seconds(self):
         begin = time.monotonic()
@@ -180,6 +219,7 @@ class Promises(unittest.TestCase):
             ring_book(strand, order)
             self.calls_of_stage_3(strand)
             self.calls_of_stage_4(strand)
+            self.calls_of_stage_5(strand)
         self.assertLess(time.monotonic() - begin, 20)
 
     def calls_of_stage_3(self, strand):
@@ -207,6 +247,24 @@ class Promises(unittest.TestCase):
         least_changes(strand)
         log = log_of(strand, list(range(22, 0, -1)))
         fits(log, strand)
+
+    def calls_of_stage_5(self, strand):
+        log = log_of(strand, list(range(1, 23)))
+        number_of_fit(log, 1000, fit_at(log, 1000, count_fits(log, 1000) - 1))
+        freest(read_log(write_log(log)))
+        count_words(22, ends_alike=True)
+        looks = Looks(24)
+        for entries in (log.entries, log_of(strand, list(range(22, 0, -1))).entries):
+            looks.add(entries)
+        looks.classes()
+        row = Row(strand)
+        parties, low, high = still(row)[-1]
+        keepers(row, parties, high)
+        guide(row, parties, low)
+        certain(row, 3, 17)
+        stand = list(range(0, 24, 2)) + [23]
+        parties, low, high = ways(strand, stand)[-1]
+        order_by_way(strand, stand, parties, high)
 
 
 if __name__ == "__main__":
