@@ -8,7 +8,9 @@ from beadmoot.books import Book
 from beadmoot.census import census
 from beadmoot.chances import mean_tally, order_counts
 from beadmoot.changes import least_changes
+from beadmoot.desk import Desk
 from beadmoot.fitting import count_fits, freest
+from beadmoot.games import Game
 from beadmoot.gaps import gaps, narrow_gaps
 from beadmoot.guide import certain, still
 from beadmoot.logs import LOG_MARKS, log_of
@@ -62,6 +64,8 @@ FUNCTIONS = {
     "guide": ["still(row)", "keepers(row, parties, edges)", "guide(row, parties, edges)", "certain(row, a, b)"],
     "garlands": ["join_strands(strands)", "past(strand, beads)", "ways(strand, beads)",
                  "order_by_way(strand, beads, parties, edges)"],
+    "claims": ["judge(strand, claim)", "claim_for(strand, parties, edges)", "least_claim(strand, prices)"],
+    "journal": ["write_journal(desk)", "read_journal(text)"],
 }
 CLASSES = {
     "strands": {"Strand(kinds)": ["stretches(self)", "mirrored(self)", "turned(self, bead)", "__iter__(self)"]},
@@ -86,6 +90,17 @@ CLASSES = {
     "logs": {"Log(entries, *, ends_alike)": ["tally(self)", "__iter__(self)"]},
     "looks": {"Looks(size)": ["add(self, entries)", "many(self)", "tell(self, a, b)", "classes(self)",
                               "fitting_strand(self)"]},
+    "nests": {"Nest(levels)": ["tallies(self, order)", "books(self, order)", "greatest_tolls(self)", "loudest(self)"]},
+    "games": {"Game(strand, *, stuck_loses=True)": [
+        "moves(self)", "is_over(self)", "move(self, bead)", "undo(self)", "winner(self)", "winning_moves(self)"]},
+    "ledger": {"Ledger(coins)": [
+        "balance(self)", "pay(self, name, bead, mark, price)", "pay_in(self, amount)", "take_back(self)",
+        "payments(self)", "spent(self, name)"]},
+    "desk": {"Desk(*, coins=0, quiet=0, odd=0, edge=1, strife=1)": [
+        "balance(self)", "prices(self)", "names(self)", "lay(self, name, kinds)", "take(self, name, bead)",
+        "grow(self, name, kind)", "pay_in(self, amount)", "do(self, line)", "undo(self)", "redo(self)", "deeds(self)",
+        "trial(self, lines)", "row(self, name)", "ledger(self)", "spent(self, name)", "least_due(self, name)",
+        "book(self, name)", "plan(self)", "clearable(self)"]},
 }
 # What the interface does not list, but the package needs.
 HELPER = "shapes"
@@ -117,11 +132,13 @@ class Interface(unittest.TestCase):
                     own = vars(found)[method.partition("(")[0]]
                     self.assertEqual(own.__name__ + str(inspect.signature(own)), method)
 
-    def test_properties_and_class_method(self):
-        for name, word in (("rows", "Row"), ("rings", "Ring")):
+    def test_properties_and_static_and_class_methods(self):
+        for name, word, other in (("rows", "Row", "taken"), ("rings", "Ring", "taken"), ("games", "Game", "turn")):
             found = vars(vars(module(name))[word])
             self.assertIsInstance(found["standing"], property)
-            self.assertIsInstance(found["taken"], property)
+            self.assertIsInstance(found[other], property)
+        self.assertIsInstance(vars(Desk)["is_name"], staticmethod)
+        self.assertEqual(str(inspect.signature(Desk.is_name)), "(name)")
         self.assertIsInstance(vars(Strand)["from_letters"], classmethod)
         self.assertEqual(str(inspect.signature(Strand.from_letters)), "(text)")
 
@@ -205,6 +222,17 @@ class Examples(unittest.TestCase):
         row.take(2)
         self.assertEqual(still(row), [(4, 0, 0)])
         self.assertEqual(certain(Row(self.strand), 0, 2), "open")
+
+    def test_games(self):
+        self.assertEqual(Game(self.strand).winning_moves(), [2])
+        self.assertEqual(Game(self.strand).winner(), 0)
+
+    def test_desk(self):
+        desk = Desk(coins=1)
+        laid = desk.lay("row", [1, 2, 3, 1])
+        mark = desk.take("row", 1)
+        self.assertEqual([desk.balance(), desk.deeds()], [0, ["lay row 1 2 3 1", "take row 1"]])
+        self.assertEqual((laid, mark), (None, "strife"))
 
     def test_readme(self):
         path = Path(__file__).parent.parent / "README.md"

@@ -6,13 +6,19 @@ from beadmoot.books import Book, is_coarser
 from beadmoot.census import census, count_above, count_books
 from beadmoot.chances import mean_tally, order_counts
 from beadmoot.changes import change_kind, free_order, insert_bead, is_free, least_changes, remove_bead
+from beadmoot.claims import claim_for, judge, least_claim
+from beadmoot.desk import Desk
 from beadmoot.fitting import book_from_log, count_fits, fit_at, freest, misfit, number_of_fit
+from beadmoot.games import Game
 from beadmoot.gaps import gaps, is_good, narrow_gaps, parties_round
 from beadmoot.garlands import join_strands, order_by_way, past, ways
 from beadmoot.guide import certain, guide, keepers, still
+from beadmoot.journal import read_journal, write_journal
+from beadmoot.ledger import Ledger
 from beadmoot.logs import Log, fits, log_of, order_of
 from beadmoot.looks import Looks
 from beadmoot.mending import joins_needed, mend
+from beadmoot.nests import Nest
 from beadmoot.notation import read_log, write_log
 from beadmoot.numbering import book_at, number_of
 from beadmoot.orders import check_run, marks_of, play, steps, tally_of, total_of
@@ -87,7 +93,7 @@ def calls():
         (free_order, [Strand([1, 2, 1, 3, 1])]), (least_changes, [strand]), (insert_bead, [strand, 2, 5]),
         (remove_bead, [strand, 2]), (change_kind, [strand, 2, 5]), (lambda more: Log(more, ends_alike=True), [entries]),
         (log.tally, []), (list, [log]), (log_of, [strand, ORDER[:]]), (order_of, [log]), (fits, [log, strand]),
-    ] + calls_of_stage_5(strand, row, log)
+    ] + calls_of_stage_5(strand, row, log) + calls_of_stage_6(strand)
 
 
 def calls_of_stage_5(strand, row, log):
@@ -110,6 +116,39 @@ def calls_of_stage_5(strand, row, log):
         (guide, [row, *still(row)[0][:2]]), (certain, [row, 0, 2]), (join_strands, [[third, third, third]]),
         (past, [strand, [0, 2, 6]]), (ways, [strand, [0, 2, 6]]),
         (order_by_way, [strand, [0, 2, 6], *ways(strand, [0, 2, 6])[0][:2]]),
+    ]
+
+
+def laid_desk():
+    """Return a desk with a row, some takings and one deed taken back."""
+    desk = Desk(coins=9)
+    for line in ("lay row 1 2 1 3 1", "take row 2", "grow row 4", "coins 3"):
+        desk.do(line)
+    desk.undo()
+    return desk
+
+
+def calls_of_stage_6(strand):
+    """Return further pairs (call, arguments)."""
+    levels = [KINDS[:], [1, 2, 1, 2, 1, 2, 2], [0] * 7]
+    nest = Nest(levels)
+    prices = Prices(odd=2)
+    game = Game(strand)
+    game.move(2)
+    ledger = Ledger(9)
+    ledger.pay("row", 1, "odd", 2)
+    desk = laid_desk()
+    claims = [claim_for(strand, 5, 1), claim_for(strand, 9, 0), least_claim(strand, prices),
+              ("book", [list(party) for party in book_of(strand, ORDER)], ORDER[:]), ("fits", log_of(strand, ORDER))]
+    return [
+        (Nest, [levels]), (nest.tallies, [ORDER[:]]), (nest.books, [ORDER[:]]), (nest.greatest_tolls, []),
+        (nest.loudest, []), (game.moves, []), (game.winner, []), (game.winning_moves, []),
+        (claim_for, [strand, 5, 1]), (claim_for, [strand, 9, 0]), (least_claim, [strand, prices]),
+        *[(judge, [strand, claim]) for claim in claims],
+        (ledger.payments, []), (ledger.spent, ["row"]), (desk.names, []), (desk.deeds, []), (desk.ledger, []),
+        (desk.prices, []), (desk.row, ["row"]), (desk.least_due, ["row"]), (desk.plan, []), (desk.clearable, []),
+        (Desk(coins=5).trial, [["lay row 1 2 1", "take row 1"]]), (Desk().lay, ["row", [1, 2, 3]]),
+        (write_journal, [desk]), (read_journal, [write_journal(desk)]),
     ]
 
 
@@ -145,7 +184,7 @@ class Promises(unittest.TestCase):
             before = shown(first)
             if isinstance(first, (list, dict)):
                 first.clear()
-                if getattr(call, "__name__", "") != "take_round":
+                if getattr(call, "__name__", "") not in ("take_round", "trial"):
                     self.assertEqual(shown(call(*arguments)), before, call)
 
     def test_nothing_changes_behind_an_error(self):
@@ -155,7 +194,10 @@ class Promises(unittest.TestCase):
         log = log_of(strand, ORDER)
         looks = Looks(7)
         looks.add([(1, "odd")])
-        before = shown([strand, row, ring, book, outcomes, log, looks])
+        nest, game, ledger, desk = Nest([KINDS, [0] * 7]), Game(Strand([1, 1, 1, 2, 3])), Ledger(5), laid_desk()
+        game.move(3)
+        ledger.pay("row", 1, "odd", 2)
+        before = shown([strand, row, ring, book, outcomes, log, looks, nest, game, ledger, desk])
         for call, arguments in (
                 (strand.turned, [7]), (row.take, [3]), (row.take, [0]), (row.take, [7]), (row.mark, [3]),
                 (row.neighbours, [1]), (row.take_round, [[4, 5]]), (row.take_round, [[4, 0]]), (row.grow, [-1]),
@@ -170,12 +212,19 @@ class Promises(unittest.TestCase):
                 (number_of_fit, [log, 2, strand]), (read_log, ["alike"]), (looks.add, [[(1, "strife"), (9, "odd")]]),
                 (looks.add, [[(2, "odd"), (1, "left")]]), (looks.tell, [0, 7]), (guide, [row, 0, 0]),
                 (certain, [row, 0, 7]), (join_strands, [[strand, strand]]), (past, [strand, [0]]),
-                (ways, [strand, [6]]), (order_by_way, [strand, [0, 6], 0, 0])):
+                (ways, [strand, [6]]), (order_by_way, [strand, [0, 6], 0, 0]), (nest.tallies, [[1]]),
+                (nest.books, [[0]]), (game.move, [1]), (game.move, [3]), (game.move, [0]), (game.move, [9]),
+                (judge, [strand, ()]), (ledger.pay, ["row", 1, "odd", 9]), (ledger.pay_in, [0]),
+                (desk.lay, ["row", [1, 2]]), (desk.lay, ["other", [1]]), (desk.take, ["row", 2]),
+                (desk.take, ["no", 2]), (desk.grow, ["row", -1]), (desk.pay_in, [0]), (desk.do, ["coins"]),
+                (desk.trial, [["coins 5", "take row 1", "undo"]]), (desk.row, ["no"]), (desk.book, ["row"])):
             self.assertIsNotNone(refusal(call, *arguments), call)
-        self.assertEqual(shown([strand, row, ring, book, outcomes, log, looks]), before)
+        self.assertEqual(shown([strand, row, ring, book, outcomes, log, looks, nest, game, ledger, desk]), before)
 
     def test_keys_of_dicts_ascend(self):
         strand = Strand(KINDS)
+        for claim in (claim_for(strand, 9, 0), least_claim(strand, Prices())):
+            self.assertEqual(list(claim[-1]), sorted(claim[-1]))
         for found in (floors(strand, Prices()), ranges(strand), census(strand), order_counts(strand),
                       losses(Row(strand)), first_totals(strand, Prices()), last_totals(strand, Prices())):
             self.assertEqual(list(found), sorted(found))
@@ -189,13 +238,15 @@ class Promises(unittest.TestCase):
         self.assertLessEqual({"strand", "rows"}, set(vars(Outcomes(Strand([1, 2])))))
         self.assertLessEqual({"entries", "ends_alike", "size"}, set(vars(Log([], ends_alike=True))))
         self.assertLessEqual({"size"}, set(vars(Looks(2))))
+        self.assertLessEqual({"strands"}, set(vars(Nest([[1, 2]]))))
 
     def test_lists_inside_tuples_are_new(self):
         strand = Strand(KINDS)
         for call, arguments in ((least_changes, [strand]), (fewest_left, [strand, Prices(), 1]),
                                 (share_purse, [[strand, strand], Prices(), 3]),
                                 (join_strands, [[Strand([1, 2, 1])] * 3]),
-                                (lambda: strand_with(Tally(1, 2, 3, 0), ends_alike=True), [])):
+                                (lambda: strand_with(Tally(1, 2, 3, 0), ends_alike=True), []),
+                                (laid_desk().plan, []), (lambda: claim_for(strand, 5, 1)[2:], [])):
             before = shown(call(*arguments))
             inner = call(*arguments)[1]
             self.assertTrue(inner)
@@ -220,6 +271,7 @@ class Promises(unittest.TestCase):
             self.calls_of_stage_3(strand)
             self.calls_of_stage_4(strand)
             self.calls_of_stage_5(strand)
+            self.calls_of_stage_6(strand)
         self.assertLess(time.monotonic() - begin, 20)
 
     def calls_of_stage_3(self, strand):
@@ -265,6 +317,21 @@ class Promises(unittest.TestCase):
         stand = list(range(0, 24, 2)) + [23]
         parties, low, high = ways(strand, stand)[-1]
         order_by_way(strand, stand, parties, high)
+
+    def calls_of_stage_6(self, strand):
+        nest = Nest([strand.kinds, [kind // 2 for kind in strand.kinds], [0] * 24])
+        nest.books(nest.loudest())
+        nest.greatest_tolls()
+        Game(strand).winning_moves()
+        judge(strand, claim_for(strand, 30, 0))
+        judge(strand, claim_for(strand, *Outcomes(strand).rows[0][:4:3]))
+        judge(strand, least_claim(strand, Prices()))
+        desk = Desk(coins=100, odd=1)
+        for at in range(12):
+            desk.lay("abcdefghijkl"[at], strand.kinds)
+        desk.trial(desk.plan()[1])
+        desk.clearable()
+        read_journal(write_journal(desk))
 
 
 if __name__ == "__main__":
